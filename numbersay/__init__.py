@@ -1,0 +1,1 @@
+"""Numbersay: tongues in which numbers are said."""
