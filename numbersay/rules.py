@@ -96,6 +96,11 @@ def signs_of(rule):
     return [piece for piece in rule.pieces if piece in SIGNS]
 
 
+def count_words(rule):
+    """How many words are among a rule's pieces."""
+    return len([piece for piece in rule.pieces if is_word(piece)])
+
+
 def covers(rule, number):
     """Whether a rule covers a number."""
     return rule.low <= number <= rule.high and rule.first <= number % rule.base <= rule.last

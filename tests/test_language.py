@@ -78,10 +78,12 @@ class LanguageTest(unittest.TestCase):
                     self.assertNotIn("%", node.value)
 
     def test_attributes_that_are_read_are_assigned(self):
-        assigned = {node.attr for _, node in nodes(ast.Attribute) if isinstance(node.ctx, ast.Store)}
+        known = {node.attr for _, node in nodes(ast.Attribute) if isinstance(node.ctx, ast.Store)}
+        for _, node in nodes(ast.ClassDef):
+            known.update(row.name for row in node.body if isinstance(row, ast.FunctionDef))
         for name, node in nodes(ast.Attribute):
             with self.subTest(file=name, line=node.lineno):
-                self.assertTrue(node.attr in assigned or node.attr in METHODS or node.attr == "__init__")
+                self.assertTrue(node.attr in known or node.attr in METHODS or node.attr == "__init__")
 
 
 if __name__ == "__main__":
