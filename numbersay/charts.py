@@ -1,6 +1,7 @@
 """Charts: from places along a way of words, the numbers whose rows lead on to other places."""
 
-from numbersay.rules import REST_SIGNS, SIGNS, rest_from, times_from
+from numbersay.rows import MOST_WORDS
+from numbersay.rules import REST_SIGNS, SIGNS, count_words, parts_of, rest_from, times_from
 from numbersay.tongues import rule_for
 
 
@@ -9,88 +10,119 @@ class Chart:
 
     ways has a list for each place, of pairs of a text and the place behind it, always a later one; None stands for
     any text. pieces has the pieces of each rule, as they stand along the way. found has for each place a dict from
-    later places to dicts with the numbers that lead there."""
+    later places to dicts with the numbers that lead there. counts has how many words the rows of numbers have.
+
+    Rules that are begun are (start, rule_place, done, times, rest): the place where one began, the place of the
+    rule, how many of its pieces are done, how often base goes into the number and its rest by base, None for what is
+    not known yet. begun has for each place a dict with those that have come there. waiting has those of them that
+    wait there for a part: for each place a dict from (rule_place, done) to lists of (start, times, rest)."""
 
     def __init__(self, tongue, pieces, ways):
         self.tongue = tongue
         self.pieces = pieces
         self.ways = ways
         self.found = [{} for way in ways]
+        self.counts = {}
+        self.begun = [{} for way in ways]
+        self.waiting = [{} for way in ways]
 
 
-def numbers_along(tongue, pieces, ways):
-    """The rising list of the numbers that lead from the first place to the last one."""
+def chart_along(tongue, pieces, ways, starts):
+    """The chart of a way, with all numbers found that lead on from these places and all that they need."""
     chart = Chart(tongue, pieces, ways)
-    # Parts that do not begin a rule begin at later places, and must have been found there.
-    for start in reversed(range(len(ways))):
-        find_from(chart, start)
-    return sorted(chart.found[0].get(len(ways) - 1, {}))
+    for start in starts:
+        begin_rules(chart, start)
+    # All steps lead on to later places, so nothing more comes to those that are done.
+    for place in range(len(ways)):
+        left = list(chart.begun[place])
+        while left:
+            one = left.pop()
+            left.extend(go_on(chart, place, one))
+    return chart
 
 
-def find_from(chart, start):
-    """Find the numbers that lead on from a place, where those from later places are found."""
-    for rule_place, pieces in enumerate(chart.pieces):
-        if pieces[0] not in SIGNS:
-            find_by(chart, start, rule_place, {(start, None, None): True}, 0)
-    # A part that begins a rule is shorter than the whole, so it is found when its end comes.
-    for end in range(start + 1, len(chart.ways)):
-        numbers = list(chart.found[start].get(end, {}))
-        for rule_place, pieces in enumerate(chart.pieces):
-            if numbers and pieces[0] in SIGNS:
-                rule = chart.tongue.rules[rule_place]
-                states = {}
-                add_parts(states, rule, pieces[0], (start, None, None), end, numbers)
-                find_by(chart, start, rule_place, states, 1)
+def numbers_to_end(chart):
+    """The rising list of the numbers that lead from the first place to the last one."""
+    return sorted(chart.found[0].get(len(chart.ways) - 1, {}))
 
 
-def find_by(chart, start, rule_place, states, done):
-    """Find the numbers of a rule that lead on from a place, some of its pieces being done.
+def begin_rules(chart, place):
+    """Begin all rules at a place; told are those that had not been begun there."""
+    return add_begun(chart, place, [(place, rule_place, 0, None, None) for rule_place in range(len(chart.pieces))])
 
-    A state is a place, how often base goes into the number and its rest by base, None for what is not known yet."""
+
+def add_begun(chart, place, ones):
+    """Add begun rules that come to a place; told are those that had not come there before."""
+    there = chart.begun[place]
+    fresh = [one for one in ones if one not in there]
+    for one in fresh:
+        there[one] = True
+    return fresh
+
+
+def go_on(chart, place, one):
+    """Go on with a begun rule; told are those that come to this same place by it."""
+    start, rule_place, done, times, rest = one
+    if done == len(chart.pieces[rule_place]):
+        return go_on_with_whole(chart, place, one)
+    piece = chart.pieces[rule_place][done]
+    if piece in SIGNS:
+        is_first = not chart.waiting[place]
+        chart.waiting[place].setdefault((rule_place, done), []).append((start, times, rest))
+        return begin_rules(chart, place) if is_first else []
+    for text, end in chart.ways[place]:
+        if text is None or text == piece:
+            add_begun(chart, end, [(start, rule_place, done + 1, times, rest)])
+    return []
+
+
+def go_on_with_whole(chart, place, one):
+    """Go on, where all pieces of a rule are done, with those that wait for its number where it began."""
+    start = one[0]
+    number = whole_number(chart, one)
+    if number is None or number in chart.found[start].get(place, {}):
+        return []
+    chart.found[start].setdefault(place, {})[number] = True
+    fresh = []
+    for waiting_rule, states in chart.waiting[start].items():
+        fresh.extend(past_part(chart, waiting_rule, states, number))
+    return add_begun(chart, place, fresh)
+
+
+def whole_number(chart, one):
+    """The number of a rule whose pieces are all done, or None where its row is another one."""
+    start, rule_place, done, times, rest = one
     rule = chart.tongue.rules[rule_place]
-    for piece in chart.pieces[rule_place][done:]:
-        states = past_part(chart, rule, piece, states) if piece in SIGNS else past_text(chart, piece, states)
-    for end, times, rest in states:
-        if times is None:
-            times = times_from(rule, {})
-        if rest is None:
-            rest = rest_from(rule, {})
-        number = rule.base * times + rest
-        if rule_for(chart.tongue, number) == rule_place:
-            chart.found[start].setdefault(end, {})[number] = True
+    if times is None:
+        times = times_from(rule, {})
+    if rest is None:
+        rest = rest_from(rule, {})
+    number = rule.base * times + rest
+    if rule_for(chart.tongue, number) == rule_place and has_few_words(chart, rule, number):
+        return number
+    return None
 
 
-def past_text(chart, piece, states):
-    """The states behind a word or a tie."""
-    behind = {}
-    for place, times, rest in states:
-        for text, end in chart.ways[place]:
-            if text is None or text == piece:
-                behind[(end, times, rest)] = True
-    return behind
+def has_few_words(chart, rule, number):
+    """Whether a number, whose parts are found, has not too many words for a row."""
+    if number not in chart.counts:
+        parts = parts_of(rule, number)
+        chart.counts[number] = count_words(rule) + sum([chart.counts[parts[sign]] for sign in parts])
+    return chart.counts[number] <= MOST_WORDS
 
 
-def past_part(chart, rule, sign, states):
-    """The states behind a part."""
-    behind = {}
-    for state in states:
-        for end, numbers in chart.found[state[0]].items():
-            add_parts(behind, rule, sign, state, end, numbers)
-    return behind
-
-
-def add_parts(behind, rule, sign, state, end, numbers):
-    """Add the states to which those of numbers lead that can be this part."""
-    times, rest = state[1:]
-    for number in numbers:
-        if sign in REST_SIGNS:
-            told = rest_told(rule, sign, number)
-            if told is not None and rest in (None, told):
-                behind[(end, times, told)] = True
-        else:
-            told = times_told(rule, sign, number)
-            if told is not None and times in (None, told):
-                behind[(end, told, rest)] = True
+def past_part(chart, waiting_rule, states, number):
+    """Those of the begun rules that wait for a part, of which a number can be this part, with it done."""
+    rule_place, done = waiting_rule
+    rule = chart.tongue.rules[rule_place]
+    sign = chart.pieces[rule_place][done]
+    if sign in REST_SIGNS:
+        told = rest_told(rule, sign, number)
+        fitting = [state for state in states if told is not None and state[2] in (None, told)]
+        return [(start, rule_place, done + 1, times, told) for start, times, rest in fitting]
+    told = times_told(rule, sign, number)
+    fitting = [state for state in states if told is not None and state[1] in (None, told)]
+    return [(start, rule_place, done + 1, told, rest) for start, times, rest in fitting]
 
 
 def times_told(rule, sign, number):

@@ -1,6 +1,6 @@
 """Rows read: the numbers that bear the words that were heard."""
 
-from numbersay.charts import numbers_along
+from numbersay.charts import chart_along, numbers_to_end
 from numbersay.errors import BadRow
 from numbersay.rows import MOST_WORDS, is_row, words_in
 
@@ -22,4 +22,4 @@ def numbers_read(tongue, texts, pieces):
     if len(words_in(texts)) > MOST_WORDS:
         return []
     ways = [[(text, place + 1)] for place, text in enumerate(texts)]
-    return numbers_along(tongue, pieces, ways + [[]])
+    return numbers_to_end(chart_along(tongue, pieces, ways + [[]], [0]))

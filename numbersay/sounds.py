@@ -72,15 +72,46 @@ def tie_steps(tongue, words, text):
 
 def states_behind(tongue, words, text, state):
     """Each of the words that may be tied on in a state, with the state behind it."""
+    pairs = [(word, state_behind(tongue, text, state, word)) for word in words]
+    return [(word, behind) for word, behind in pairs if behind is not None]
+
+
+def state_behind(tongue, text, state, word):
+    """The state behind a word that is tied on in a state, or None where it does not lead to the text."""
+    length, end = state
+    return state_with(tongue, text, length - len(end), tied(tongue, end, word))
+
+
+def state_with(tongue, text, begin, letters):
+    """The state where these letters stand from begin on, or None where it does not lead to the text."""
+    state = (begin + len(letters), letters[-MOST_AHEAD:])
+    firm = letters[:-MOST_AHEAD]
+    if state[0] > len(text) or text[begin:begin + len(firm)] != firm:
+        return None
+    return state if fits(text, state) or can_melt(tongue, text, state) else None
+
+
+def fits(text, state):
+    """Whether the letters that may melt yet in a state are the text's own as they are."""
+    length, end = state
+    return text[length - len(end):length] == end
+
+
+def can_melt(tongue, text, state):
+    """Whether a melt may yet take away the first letter in a state that is not the text's own."""
     length, end = state
     begin = length - len(end)
-    pairs = []
-    for word in words:
-        letters = tied(tongue, end, word)
-        firm = letters[:-MOST_AHEAD]
-        if begin + len(letters) <= len(text) and text[begin:begin + len(firm)] == firm:
-            pairs.append((word, (begin + len(letters), letters[-MOST_AHEAD:])))
-    return pairs
+    wrong = 0
+    while end[wrong] == text[begin + wrong]:
+        wrong += 1
+    left = len(end) - wrong
+    for ahead, behind, made in tongue.melts:
+        if len(ahead) >= left and end.endswith(ahead):
+            return True
+        # At a later tie more letters stand behind it.
+        if end[wrong] in ahead[:-left]:
+            return True
+    return False
 
 
 def leading_to(steps, goal):

@@ -3,6 +3,7 @@
 import itertools
 import random
 
+from numbersay.kinds import Kind
 from numbersay.rules import Rule
 from numbersay.tongues import Tongue
 
@@ -140,6 +141,48 @@ def chance_tongue(seed, bound=40, words=("aa", "ab", "aba", "ca")):
     return Tongue(bound, rules)
 
 
+def chance_text(dice, least, most):
+    return "".join(dice.choices("ab", k=dice.randrange(least, most + 1)))
+
+
+def chance_melts(dice):
+    melts = []
+    for _ in range(dice.randrange(6)):
+        ahead, behind = chance_text(dice, 1, 3), chance_text(dice, 1, 3)
+        melts.append((ahead, behind, chance_text(dice, len(ahead) + len(behind) - 1, 6)))
+    return melts
+
+
+def chance_kind(dice, title, words):
+    """Some kind by which about half of the words are turned."""
+    turns = [(text, chance_text(dice, 2, 4)) for text in words if dice.random() < 0.5]
+    return Kind(title, chance_text(dice, 2, 3), turns)
+
+
+def sounding_tongue(seed):
+    """Some tongue of few short words, of which many melt into one another, with the kinds "which" and "part"."""
+    dice = random.Random(seed)
+    words = sorted({chance_text(dice, 2, 4) for _ in range(dice.randrange(2, 6))})
+    plain = chance_tongue(seed, dice.choice([0, 5, 20, 40, 90]), words)
+    kinds = [chance_kind(dice, "which", words), chance_kind(dice, "part", [])]
+    return Tongue(plain.bound, plain.rules, chance_melts(dice), kinds)
+
+
+def with_kinds(tongue, *kinds):
+    """The tongue with these kinds."""
+    return Tongue(tongue.bound, tongue.rules, tongue.melts, list(kinds))
+
+
+def altered(dice, text):
+    """A text with a letter more, less or put otherwise, and with a blank more or all blanks left out."""
+    place = dice.randrange(len(text))
+    ahead, behind = text[:place], text[place + 1:]
+    return [
+        ahead + behind, ahead + dice.choice("ab") + text[place:], ahead + dice.choice("ab ") + behind,
+        ahead + " " + text[place:], text.replace(" ", ""), " " + text, text + " ",
+    ]
+
+
 def slow_row(tongue, number, ahead=0):
     """The row by the words of point 2.1, or None; ahead is how many rules have been taken on the way here."""
     if ahead > 40 or not 0 <= number <= tongue.bound:
@@ -206,3 +249,26 @@ def slow_melted(tongue, text, behind_it):
         if text[-len(ahead):] == ahead and behind_it[:len(behind)] == behind:
             return text[:len(text) - len(ahead)] + made + behind_it[len(behind):]
     return text + behind_it
+
+
+def slow_names(tongue):
+    """The names of all numbers of a tongue that have one."""
+    rows = {number: slow_row(tongue, number) for number in range(tongue.bound + 1)}
+    return {number: slow_said(tongue, row) for number, row in rows.items() if row is not None}
+
+
+def slow_kind_names(tongue, kind):
+    """The names of a kind by the words of point 6.1, of all numbers of a tongue that have one."""
+    names = {}
+    for number in range(tongue.bound + 1):
+        row = slow_row(tongue, number)
+        if row is not None:
+            seconds = [second for first, second in kind.turns if first == row[-1]]
+            row[len(row) - len(seconds):] = seconds or ["+", kind.ending]
+            names[number] = slow_said(tongue, row)
+    return names
+
+
+def bearing(names, text):
+    """The numbers, in their order, that have this text as their name."""
+    return [number for number, name in names.items() if name == text]

@@ -9,8 +9,8 @@ from numbersay.rows import row_of
 from numbersay.rules import Rule
 from numbersay.sounds import name_of, said, tied_in
 from numbersay.tongues import Tongue
-from tests.samples import HUGE, chance_tongue, english, german, latin, living, telling_numbers, word
-from tests.samples import slow_row, slow_said
+from tests.samples import HUGE, chance_melts, chance_text, chance_tongue, english, german, latin, living
+from tests.samples import slow_row, slow_said, telling_numbers, word
 
 PLAIN = Tongue(9, [])
 
@@ -148,18 +148,6 @@ class MeltedTest(unittest.TestCase):
                     row += dice.choice([["+"], []]) + [chance_text(dice, 2, 4)]
                 with self.subTest(melts=tongue.melts, row=row):
                     self.assertEqual(said(tongue, row), slow_said(tongue, row))
-
-
-def chance_text(dice, least, most):
-    return "".join(dice.choices("ab", k=dice.randrange(least, most + 1)))
-
-
-def chance_melts(dice):
-    melts = []
-    for _ in range(dice.randrange(6)):
-        ahead, behind = chance_text(dice, 1, 3), chance_text(dice, 1, 3)
-        melts.append((ahead, behind, chance_text(dice, len(ahead) + len(behind) - 1, 6)))
-    return melts
 
 
 class NameOfTest(unittest.TestCase):
