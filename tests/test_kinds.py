@@ -288,6 +288,13 @@ class KindNumbersTest(unittest.TestCase):
         self.assertEqual(kind_numbers(tongue, "which", "oneonetwo"), [11])
         self.assertEqual(kind_numbers(tongue, "which", "twooneooone"), [23])
 
+    def test_the_longest_words_with_the_longest_melts(self):
+        rules = [Rule(1, 1, 2, 1, 1, ["xa", "+", "bcdefghija"]), Rule(2, 2, 2, 0, 0, ["xa", "+", "bcdefghijk"])]
+        kind = Kind("which", "bcdefghijz", [("bcdefghijk", "bqqqqqqqqq")])
+        tongue = Tongue(9, rules, [("a", "b", "mmmmmm")], [kind])
+        self.assertEqual(kind_numbers(tongue, "which", "xmmmmmmcdefghijmmmmmmcdefghijz"), [1])
+        self.assertEqual(kind_numbers(tongue, "which", "xmmmmmmqqqqqqqqq"), [2])
+
     def test_a_name_that_only_a_number_above_bound_would_have(self):
         rules = [word(4, "four"), word(5, "five"), word(6, "six")]
         tongue = Tongue(5, rules, None, [which()])

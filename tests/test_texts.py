@@ -131,6 +131,14 @@ class NumbersInTest(unittest.TestCase):
         self.assertEqual(name, slow_names(tongue)[7])
         self.assertEqual(numbers_in(tongue, name), [7])
 
+    def test_the_longest_word_with_the_longest_melt(self):
+        rules = [Rule(1, 1, 2, 1, 1, ["xa", "+", "bcdefghijk"])]
+        rules += [Rule(2, 2, 2, 0, 0, ["xa", "+", "bc", "+", "dcdefghijk"])]
+        tongue = Tongue(9, rules, [("a", "b", "mmmmmm"), ("c", "d", "nnnnnn")])
+        self.assertEqual(numbers_in(tongue, "xmmmmmmcdefghijk"), [1])
+        self.assertEqual(numbers_in(tongue, "xmmmmmmnnnnnncdefghijk"), [2])
+        self.assertEqual(rows_in(tongue, "xmmmmmmcdefghijk"), [["xa", "+", "bcdefghijk"]])
+
     def test_exactly_forty_words_and_forty_one(self):
         self.assertEqual(numbers_in(tens(), "one" + " ten" * 39), [10 ** 39])
         self.assertEqual(numbers_in(tens(), "one" + " ten" * 40), [])
